@@ -5,6 +5,7 @@ import (
 	"slices"
 
 	"midden/api"
+	"midden/graph"
 	"midden/marks"
 )
 
@@ -61,7 +62,7 @@ func (p *parts) bySerial(m *marks.Map) []standing {
 }
 
 // closed is what is told of a handle that isn't open, by roots and in graphs.
-const closed = -1
+const closed = graph.Closed
 
 // translation: an object's address by its number in a graph, or its number by its address. What it doesn't name is null, which is 0 in both.
 type translation map[int]int

@@ -1,6 +1,9 @@
 package heap
 
-import "midden/api"
+import (
+	"midden/api"
+	"midden/graph"
+)
 
 // Restore makes one that holds a graph, all of it tenured.
 func Restore(c api.Config, g api.Graph) (*Heap, api.Errno) {
@@ -8,7 +11,7 @@ func Restore(c api.Config, g api.Graph) (*Heap, api.Errno) {
 	switch {
 	case e != api.OK:
 		return nil, e
-	case !mayBe(g):
+	case !graph.MayBe(g):
 		return nil, api.ErrImageGraph
 	case !fits(c, g):
 		return nil, api.ErrImageRoom
@@ -21,27 +24,15 @@ func Restore(c api.Config, g api.Graph) (*Heap, api.Errno) {
 func fits(c api.Config, g api.Graph) bool {
 	words := 0
 	for _, o := range g.Objects {
-		n, _ := size(headOf(o))
+		n, _ := size(graph.Head(o))
 		words += n
 	}
 	for _, frames := range g.Slots {
-		if slotsOf(frames) > c.Slots {
+		if graph.Slots(frames) > c.Slots {
 			return false
 		}
 	}
 	return words <= c.Tenured && len(g.Slots) == c.Threads && len(g.Handles) == c.Handles
-}
-
-func headOf(o api.Object) api.Head {
-	return api.Head{Serial: o.Serial, Kind: o.Kind, Ptrs: len(o.Ptrs), Raws: len(o.Raws), Site: o.Site}
-}
-
-func slotsOf(frames [][]int) int {
-	slots := 0
-	for _, frame := range frames {
-		slots += len(frame)
-	}
-	return slots
 }
 
 // fill lays a graph that fits into an empty heap.
@@ -65,7 +56,7 @@ func (p *parts) fill(g api.Graph) {
 func (p *parts) layObjects(list []api.Object) translation {
 	at := translation{closed: closed}
 	for i, o := range list {
-		at[i+1], _ = p.arena.Put(api.SpaceTenured, headOf(o))
+		at[i+1], _ = p.arena.Put(api.SpaceTenured, graph.Head(o))
 	}
 	for i, o := range list {
 		for field, to := range at.of(o.Ptrs) {
