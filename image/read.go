@@ -3,6 +3,7 @@ package image
 import (
 	"midden/api"
 	"midden/graph"
+	"midden/octets"
 )
 
 // reader goes through bytes from the left, and gives up at the first fault.
@@ -86,18 +87,15 @@ func (r *reader) read(p part) {
 
 // number reads one of any size.
 func (r *reader) number() uint64 {
-	place, n := r.at, uint64(0)
-	for i := 0; ; i++ {
-		b := r.take(1)[0]
-		// A last group of 0 isn't needed; the tenth one, which must be the last, has one bit of the word.
-		if i > 0 && b == 0 || i == groups-1 && b > 1 {
-			giveUp(place, api.ErrImageForm)
-		}
-		n |= uint64(b%top) << (wide * i)
-		if b < top {
-			return n
-		}
+	n, size, how := octets.Number(r.bytes[r.at:])
+	switch how {
+	case octets.Short:
+		r.short()
+	case octets.Wrong:
+		giveUp(r.at, api.ErrImageForm)
 	}
+	r.at += size
+	return n
 }
 
 // bounded reads a number that is no raw field.
@@ -122,7 +120,7 @@ func (r *reader) count() int {
 // end reads the checksum, behind which there is nothing.
 func (r *reader) end() {
 	place := r.at
-	sum := sealed(r.bytes[:place])
+	sum := octets.Checksum(r.bytes[:place])
 	if string(r.take(len(sum))) != string(sum[:]) {
 		giveUp(place, api.ErrImageSum)
 	}

@@ -1,5 +1,10 @@
 package image
 
+import "midden/octets"
+
+// magic is what the bytes of a graph begin with.
+const magic = "MDI1"
+
 // writer lays bytes, one part behind the other.
 type writer struct {
 	bytes []byte
@@ -29,15 +34,9 @@ func (w *writer) write(p part) {
 	}
 }
 
-func (w *writer) number(n uint64) {
-	for n >= top {
-		w.bytes = append(w.bytes, byte(n%top|top))
-		n >>= wide
-	}
-	w.bytes = append(w.bytes, byte(n))
-}
+func (w *writer) number(n uint64) { w.bytes = octets.Append(w.bytes, n) }
 
 func (w *writer) end() {
-	sum := sealed(w.bytes)
+	sum := octets.Checksum(w.bytes)
 	w.bytes = append(w.bytes, sum[:]...)
 }
