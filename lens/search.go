@@ -5,6 +5,7 @@ import (
 	"sync"
 
 	"midden/api"
+	"midden/halt"
 )
 
 // numbered: an object and its number.
@@ -26,12 +27,12 @@ type search struct {
 func newSearch(c *Cancel, want func(o api.Object) bool) *search {
 	s := &search{want: want, work: make(chan numbered)}
 	if c != nil {
-		s.done = c.channel()
+		s.done = c.wish.Done()
 	}
 	return s
 }
 
-func (s *search) cancelled() bool { return isClosed(s.done) }
+func (s *search) cancelled() bool { return halt.Closed(s.done) }
 
 // run has the workers ask about the objects, and waits until all of them have ended.
 func (s *search) run(objects []api.Object, workers int) {
